@@ -1,0 +1,1 @@
+"""everymatch: sayings about nodes, answered for ever in a document that is edited."""

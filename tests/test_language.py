@@ -1,0 +1,146 @@
+"""The rules of the language that can be read off the files, and the names of the interface."""
+
+import ast
+import builtins
+import unittest
+from pathlib import Path
+
+FOLDER = Path(__file__).resolve().parent.parent / "everymatch"
+FILES = sorted(FOLDER.glob("*.py"))
+
+LIBRARY = {
+    "heapq": {"heappush", "heappop", "heapify", "heapreplace", "heappushpop"},
+    "math": {"gcd", "lcm", "isqrt", "comb", "perm", "factorial"},
+    "itertools": {"product", "combinations", "permutations", "chain", "accumulate", "pairwise", "islice",
+                  "zip_longest"},
+    "collections": {"defaultdict", "deque"},
+}
+BUILTINS = set("""len range enumerate zip min max sum abs sorted reversed int str bool bytes list tuple dict set
+    frozenset isinstance ord repr any all divmod pow getattr hasattr setattr iter next map super property
+    staticmethod classmethod Exception ValueError TypeError KeyError IndexError LookupError ZeroDivisionError
+    ArithmeticError OverflowError RuntimeError NotImplementedError AttributeError StopIteration
+    NotImplemented""".split())
+BARRED = (ast.AsyncFor, ast.AsyncFunctionDef, ast.AsyncWith, ast.Await, ast.Import, ast.Div, ast.MatMult)
+
+# The functions of the interface with their parameters, file by file.
+INTERFACE = {
+    "documents": """is_document(thing) parents(document) children(document,node) sizes(document)
+        place_of(document,node) node_at(document,place) write_document(document) read_document(text)
+        piece_of(document,node) flipped(document) depth_of(document) breadth_of(document)""",
+    "edits": """is_edit(thing) edited(document,edit) edited_all(document,edits) carried(document,edit)
+        kept_pairs(document,edit) back_edit(document,edit) edits_between(document,other)
+        laid_over(document,other,pairs)""",
+}
+
+
+def trees():
+    return [(path, ast.parse(path.read_text(encoding="utf-8"))) for path in FILES]
+
+
+def nodes(tree, *kinds):
+    return [node for node in ast.walk(tree) if isinstance(node, kinds)]
+
+
+def bound_names(tree):
+    """All names that the file binds anywhere."""
+    found = {node.id for node in nodes(tree, ast.Name) if not isinstance(node.ctx, ast.Load)}
+    found |= {node.name for node in nodes(tree, ast.FunctionDef, ast.ClassDef)}
+    found |= {node.arg for node in nodes(tree, ast.arg)}
+    return found | {name.name for node in nodes(tree, ast.ImportFrom) for name in node.names}
+
+
+class LanguageTest(unittest.TestCase):
+    def test_files(self):
+        self.assertTrue((FOLDER / "__init__.py").is_file())
+        self.assertLessEqual(len(FILES), 100)
+        for path in FOLDER.iterdir():
+            if path.name != "__pycache__":
+                self.assertEqual(path.suffix, ".py")
+                self.assertRegex(path.stem, "^(__init__|__main__|[a-z][a-z0-9_]*)$")
+
+    def test_sizes_and_signs(self):
+        for path, tree in trees():
+            text = path.read_text(encoding="utf-8")
+            rows = text.split("\n")
+            self.assertLessEqual(len(rows), 400, path.name)
+            self.assertLessEqual(max(len(row) for row in rows), 120, path.name)
+            self.assertTrue(all(sign == "\n" or " " <= sign <= "~" for sign in text), path.name)
+            for node in nodes(tree, ast.FunctionDef):
+                self.assertLessEqual(node.end_lineno - node.lineno + 1, 40, (path.name, node.name))
+
+    def test_imports(self):
+        reached = {}
+        for path, tree in trees():
+            reached[path.stem] = set()
+            for node in nodes(tree, ast.ImportFrom):
+                self.assertIn(node, tree.body)
+                self.assertEqual(node.level, 0)
+                names = {name.name for name in node.names}
+                self.assertEqual({name.asname for name in node.names}, {None})
+                if node.module in LIBRARY:
+                    self.assertLessEqual(names, LIBRARY[node.module])
+                    continue
+                package, stem = node.module.split(".")
+                self.assertEqual(package, "everymatch")
+                reached[path.stem].add(stem)
+                other = ast.parse((FOLDER / f"{stem}.py").read_text(encoding="utf-8"))
+                own = {one.name for one in other.body if isinstance(one, (ast.FunctionDef, ast.ClassDef))}
+                own |= {one.targets[0].id for one in other.body if isinstance(one, ast.Assign)}
+                self.assertLessEqual(names, own, path.name)
+        while reached:
+            ready = [stem for stem, others in reached.items() if not others & set(reached)]
+            self.assertTrue(ready, "files import from each other")
+            reached = {stem: others for stem, others in reached.items() if stem not in ready}
+
+    def test_module_level(self):
+        for path, tree in trees():
+            for node in tree.body:
+                docstring = isinstance(node, ast.Expr) and node is tree.body[0]
+                plain = isinstance(node, ast.Assign) and not nodes(node, ast.Call, ast.Lambda, ast.ListComp)
+                kinds = (ast.ImportFrom, ast.FunctionDef, ast.ClassDef)
+                self.assertTrue(docstring or plain or isinstance(node, kinds), (path.name, node.lineno))
+
+    def test_statements_and_expressions(self):
+        for path, tree in trees():
+            self.assertEqual(nodes(tree, *BARRED), [], path.name)
+            for node in nodes(tree, ast.FunctionDef, ast.ClassDef):
+                self.assertTrue(isinstance(node, ast.FunctionDef) or not node.decorator_list)
+            for node in nodes(tree, ast.Compare):
+                for sign, right in zip(node.ops, node.comparators):
+                    if isinstance(sign, (ast.Is, ast.IsNot)):
+                        self.assertIn(getattr(right, "value", 0), (None, True, False), (path.name, node.lineno))
+            for node in nodes(tree, ast.Constant):
+                self.assertNotIsInstance(node.value, (float, complex))
+                if isinstance(node.value, str):
+                    self.assertNotIn("%", node.value, (path.name, node.lineno))
+
+    def test_names(self):
+        own = {path.stem: bound_names(tree) for path, tree in trees()}
+        for path, tree in trees():
+            for name in own[path.stem]:
+                self.assertRegex(name, "^(_|_?[A-Za-z][A-Za-z0-9_]*|__[a-z]+__)$")
+                self.assertFalse(hasattr(builtins, name) and not name.startswith("__"), (path.name, name))
+            for node in nodes(tree, ast.Name):
+                self.assertIn(node.id, own[path.stem] | BUILTINS, (path.name, node.lineno))
+            imported = {name.name for node in nodes(tree, ast.ImportFrom) for name in node.names}
+            classes = {node.name for node in nodes(tree, ast.ClassDef)}
+            local = {node.arg for node in nodes(tree, ast.arg)}
+            local |= {node.id for node in nodes(tree, ast.Name) if isinstance(node.ctx, ast.Store)}
+            self.assertEqual(local & (imported | classes), set(), path.name)
+            loaded = {node.id for node in nodes(tree, ast.Name) if isinstance(node.ctx, ast.Load)}
+            self.assertEqual(imported - loaded, set(), path.name)
+
+    def test_interface(self):
+        for stem, told in INTERFACE.items():
+            tree = ast.parse((FOLDER / f"{stem}.py").read_text(encoding="utf-8"))
+            own = {node.name: node for node in tree.body if isinstance(node, ast.FunctionDef)}
+            for call in told.split():
+                name, names = call[:-1].split("(")
+                self.assertIn(name, own, stem)
+                parameters = own[name].args
+                self.assertEqual([one.arg for one in parameters.args], names.split(","), name)
+                self.assertEqual(parameters.defaults + parameters.kwonlyargs + parameters.posonlyargs, [])
+
+
+if __name__ == "__main__":
+    unittest.main()
