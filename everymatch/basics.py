@@ -4,7 +4,9 @@ Nothing here judges the document that it is given: the functions of the interfac
 """
 
 MARKS = ("a", "b", "c", "d", "e", "f", "g", "h")
+NAMES = ("p", "q", "r", "s", "t", "u", "v", "w", "x", "y", "z")
 MOST_NODES = 20000
+MOST_NAMES = 5
 
 
 def is_whole(thing):
@@ -20,6 +22,16 @@ def is_number(thing):
 def is_mark(thing):
     """Whether it is a mark."""
     return isinstance(thing, str) and thing in MARKS
+
+
+def is_name(thing):
+    """Whether it is a name."""
+    return isinstance(thing, str) and thing in NAMES
+
+
+def ascends(entries):
+    """Whether each entry is greater than the one ahead of it."""
+    return all([entries[at] > entries[at - 1] for at in range(1, len(entries))])
 
 
 def is_node(document, thing):

@@ -11,6 +11,7 @@ from everymatch.basics import row_of
 from everymatch.basics import rows_in
 from everymatch.errors import BadDocument
 from everymatch.errors import BadNode
+from everymatch.errors import BadNodes
 from everymatch.errors import BadPlace
 from everymatch.errors import BadText
 
@@ -42,6 +43,14 @@ def check_node(document, thing):
     """Raise BadNode if it is no node of the document."""
     if not is_node(document, thing):
         raise BadNode("this is no node of the document")
+
+
+def check_nodes(document, nodes, many):
+    """Raise BadNodes if it is no tuple of so many nodes of the document."""
+    if not isinstance(nodes, tuple) or len(nodes) != many:
+        raise BadNodes("this is no tuple of as many nodes as there are names")
+    if not all([is_node(document, node) for node in nodes]):
+        raise BadNodes("one of these is no node of the document")
 
 
 def parents(document):

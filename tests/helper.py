@@ -144,3 +144,255 @@ def edits_near(document):
             + [("take", node) for node in nodes]
             + [("put", place, piece) for place in places for piece in PIECES]
             + [("move", node, place) for node in nodes for place in places])
+
+
+NOT_NAMES = ANY_OBJECTS + (None, 0, 1, "", "a", "h", "i", "o", "P", "xy", "pqrstuvwxyz", " ", ("x",))
+
+NOT_ROWS_OF_MARKS = ANY_OBJECTS + (
+    None, 0, "", "a", "abc", (), ["a"], ("a", "a"), ("b", "a"), ("a", "c", "b"), ("a", "b", "b"), ("i",), ("x",),
+    ("ab",), ("A",), ("",), ("a", 1), (None,), (True,), (("a",),), ("a", ("b",)), ("a", ["b"]), (Same(),),
+    tuple("abcdefghi"), tuple("abcdefgha"), tuple("hgfedcba"))
+
+# A saying of each sort.
+SAYINGS = (
+    ("marked", "x", ("a",)), ("marked", "p", tuple("abcdefgh")), ("child", "x", "y"), ("below", "y", "x"),
+    ("next", "x", "y"), ("after", "z", "p"), ("same", "x", "y"), ("same", "x", "x"), ("top", "x"),
+    ("both", ("top", "x"), ("child", "x", "y")), ("either", ("same", "p", "z"), ("marked", "p", ("b", "h"))),
+    ("not", ("top", "x")), ("some", "x", ("top", "x")), ("all", "y", ("child", "x", "y")),
+)
+
+NOT_SAYINGS = ANY_OBJECTS + (
+    None, 0, 1, "", "x top", "top", (), ("top",), (("top", "x"),), (None,), (0,), (True,), (Same(),), ([],),
+    ("marked", "x"), ("not",), ("some", "x"), ("x", "top"), ("under", "x", "y"), ("over", "x", "y"),
+    ("in", "x", ("a",)), ("and", ("top", "x"), ("top", "x")), ("", "x"), ("TOP", "x"), (b"top", "x"),
+    (("top",), "x"), (["top"], "x"), ("some", "x", "x"), ("not", "x"), ("not", ("not",)),
+)
+
+TOLD = tuple("""(x in M and some y (x above y and y in N))
+(x in M or (x top and some y x over y))
+(x in M and not some y (x above y and y in N))
+some z (x over z and (z in M and z above y))
+(x in M and all y (not x over y or y in N))
+(x then y and (x in M and y in N))
+(x above y and not some z (x above z and (z above y and z in M)))
+(x over y and (x over z and y ahead z))
+(x over y and (y over z and (x in M and z in N)))
+some x (x in M and some y (x above y and some z (y above z and z in N)))
+all x (not x in M or some y (y above x and (y in N and y top)))
+(some y (x over y and y in M) and (some y (x over y and y in N) and some z (x over z and z in K)))
+((x above y and y in M) or (y above x and x in N))
+((x then y or y then x) and (x in M or y in M))
+all y (not x above y or (y in M or some z (y over z and z in N)))
+(x above z and (y above z and not x is y))
+(z in M and (x ahead z and some y (z over y and y in N)))
+(x in M and ((y in N and x over y) or (y in K and x above y)))
+some p (not p top and some q (p over q and some r (q over r and some s (r over s and some t s over t))))
+(not x top and some q (x then q and some r (q then r and some s r then s)))""".split("\n"))
+
+
+def changed_entries(thing, worse):
+    """The tuple with each of its entries, at any depth, changed in each way that worse tells for an entry."""
+    found = list(worse(thing))
+    for at, entry in enumerate(thing if isinstance(thing, tuple) else ()):
+        found.extend(thing[:at] + (other,) + thing[at + 1:] for other in changed_entries(entry, worse))
+    return found
+
+
+def nested(sort, many, inner):
+    """The saying with so many nots, or somes or alls of the names told, around it."""
+    for name in many:
+        inner = (sort, inner) if sort == "not" else (sort, name, inner)
+    return inner
+
+
+def of_many(many, leaf=("top", "x")):
+    """A saying of so many sayings that nests no deeper than it must."""
+    if many < 3:
+        return leaf if many == 1 else ("not", leaf)
+    half = (many - 1) // 2
+    half -= 1 - half % 2
+    return ("both", of_many(half, leaf), of_many(many - 1 - half, leaf))
+
+
+def free_plainly(saying):
+    """The set of the free names of a saying."""
+    sort = saying[0]
+    if sort in ("both", "either"):
+        return free_plainly(saying[1]) | free_plainly(saying[2])
+    if sort == "not":
+        return free_plainly(saying[1])
+    if sort in ("some", "all"):
+        return free_plainly(saying[2]) - {saying[1]}
+    return {saying[1]} if sort in ("marked", "top") else {saying[1], saying[2]}
+
+
+def holds_plainly(saying, document, known):
+    """Whether the saying holds, read word by word; known tells the nodes of its free names."""
+    sort, first = saying[:2]
+    if sort == "not":
+        return not holds_plainly(first, document, known)
+    if sort in ("both", "either"):
+        answers = [holds_plainly(part, document, known) for part in saying[1:]]
+        return all(answers) if sort == "both" else any(answers)
+    if sort in ("some", "all"):
+        answers = [holds_plainly(saying[2], document, {**known, first: node}) for node in range(len(document))]
+        return any(answers) if sort == "some" else all(answers)
+    spots = {tree[0]: (trees, which, tree) for tree, _, trees, which in walk(to_trees(document))}
+    row, which, tree = spots[known[first]]
+    if sort == "marked":
+        return tree[1] in saying[2]
+    if sort == "top":
+        return document[known[first]][1] == 0
+    other_row, other_which, other_tree = spots[known[saying[2]]]
+    if sort == "child":
+        return other_row is tree[2]
+    if sort == "below":
+        return any(other_tree is one for one, _, _, _ in walk(tree[2]))
+    if sort == "same":
+        return tree is other_tree
+    ahead = other_which - which
+    return row is other_row and (ahead == 1 if sort == "next" else ahead > 0)
+
+
+def matches_plainly(saying, document):
+    """The list of the matches of the saying, in their sequence."""
+    free = sorted(free_plainly(saying))
+    return [nodes for nodes in product(range(len(document)), repeat=len(free))
+            if holds_plainly(saying, document, dict(zip(free, nodes)))]
+
+
+def relations(names):
+    """All sayings of the first seven sorts with these names, each sort of marks once."""
+    found = [(sort, x, y) for sort in ("child", "below", "next", "after", "same") for x in names for y in names]
+    return found + [("top", x) for x in names] + [("marked", x, ("a", "c")) for x in names]
+
+
+def some_saying(rng, deep, names):
+    """A saying, or nearly one, by chance: no deeper than told, of these names."""
+    if deep == 0 or rng.random() < 0.2:
+        return rng.choice(relations(names))
+    sort = rng.choice(("both", "either", "both", "either", "not", "some", "all"))
+    if sort == "not":
+        return (sort, some_saying(rng, deep - 1, names))
+    first = rng.choice(names) if sort in ("some", "all") else some_saying(rng, deep - 1, names)
+    return (sort, first, some_saying(rng, deep - 1, names))
+
+
+def steps_of(many, step):
+    """The table of steps of so many states."""
+    return tuple(tuple(step(q, r) for r in range(many)) for q in range(many))
+
+
+def counter(many):
+    """A machine that counts the nodes at the top, its last state kept; the state behind these is all nodes' own."""
+    return ((), ((many,),) * 8, 0, steps_of(many + 1, lambda q, r: min(q + 1, many - 1) if q < many else many),
+            (many - 1,))
+
+
+def wheel(many):
+    """A machine that counts the nodes at the top around; the state behind these is all nodes' own."""
+    return ((), ((many,),) * 8, 0, steps_of(many + 1, lambda q, r: (q + 1) % many if q < many else many), (0,))
+
+
+def named(machine, names):
+    """A machine without names, told as one that does not look at these names."""
+    return (tuple(names),) + (tuple(row * 2 ** len(names) for row in machine[1]),) + machine[2:]
+
+
+def by_chance(rng, many, names):
+    """A machine of so many states, made by chance; its steps are of a few kinds, so that not all are told apart."""
+    kind = rng.randrange(4)
+    rows = (lambda q, r: rng.randrange(many), lambda q, r: min(q + r, many - 1), lambda q, r: max(q, r),
+            lambda q, r: rng.choice((q, r, many - 1)))
+    begin = tuple(tuple(rng.randrange(many) for _ in range(2 ** len(names))) for _ in range(8))
+    good = tuple(state for state in range(many) if rng.random() < 0.4)
+    return (tuple(names), begin, rng.randrange(many), steps_of(many, rows[kind]), good)
+
+
+def shuffled(rng, machine, more):
+    """The machine with its states numbered anew, and so many more that are never come to."""
+    names, begin, top, step, good = machine
+    many = len(step) + more
+    new = rng.sample(range(many), many)
+    table = [[rng.randrange(many) for _ in range(many)] for _ in range(many)]
+    for q, row in enumerate(step):
+        for r, state in enumerate(row):
+            table[new[q]][new[r]] = new[state]
+    never = [new[state] for state in range(len(step), many) if rng.random() < 0.5]
+    return (names, tuple(tuple(new[state] for state in row) for row in begin), new[top],
+            tuple(tuple(row) for row in table), tuple(sorted([new[state] for state in good] + never)))
+
+
+def layings(many, names):
+    """All layings of so many nodes, of so many names."""
+    return list(product(range(2 ** names), repeat=many))
+
+
+def run_plainly(machine, document, laying):
+    """The nodes' states along the document, and its own, told from the leaves on."""
+    names, begin, top, step, good = machine
+    states = {}
+
+    def state_below(start, trees):
+        for tree in trees:
+            mark = begin["abcdefgh".index(tree[1])][laying[tree[0]]]
+            states[tree[0]] = state_below(mark, tree[2])
+            start = step[start][states[tree[0]]]
+        return start
+
+    whole = state_below(top, to_trees(document))
+    return tuple(states[node] for node in range(len(document))), whole
+
+
+def lets_plainly(machine, document, laying):
+    return run_plainly(machine, document, laying)[1] in machine[4]
+
+
+def same_plainly(machine, other, documents):
+    """Whether two machines of the same names let the same layings of these documents."""
+    return all(lets_plainly(machine, document, laying) == lets_plainly(other, document, laying)
+               for document in documents for laying in layings(len(document), len(machine[0])))
+
+
+def closed(states, steps):
+    """The list of the states and of all to which the steps, a function of a list of states, lead from them."""
+    states = list(dict.fromkeys(states))
+    while True:
+        more = list(dict.fromkeys(states + steps(states)))
+        if len(more) == len(states):
+            return states
+        states = more
+
+
+def least_plainly(machine):
+    """The least machine as point 18 tells it, of any number of states; ("n", state) is a node's, ("t", state) a top's."""
+    names, begin, top, step, good = machine
+    nodes = closed([state for row in begin for state in row], lambda found: [step[q][r] for q in found for r in found])
+    tops = closed([top], lambda found: [step[q][r] for q in found for r in nodes])
+    all_states = [("n", state) for state in nodes] + [("t", state) for state in tops]
+    classes = {(kind, state): (kind, kind == "t" and state in good) for kind, state in all_states}
+    while True:
+        traits = {(kind, state): (classes[kind, state],
+                                  tuple(classes[kind, step[state][r]] for r in nodes),
+                                  tuple(classes["n", step[q][state]] for q in nodes) if kind == "n" else (),
+                                  tuple(classes["t", step[q][state]] for q in tops) if kind == "n" else ())
+                  for kind, state in all_states}
+        numbers = {trait: number for number, trait in enumerate(dict.fromkeys(traits.values()))}
+        if len(numbers) == len(set(classes.values())):
+            break
+        classes = {state: numbers[trait] for state, trait in traits.items()}
+    found = list(dict.fromkeys([classes["t", top]] + [classes["n", state] for row in begin for state in row]))
+    one_of = {classes[state]: state for state in all_states}
+    before = 0
+    while len(found) > before:
+        before = len(found)
+        pairs = sorted((max(q, r), q, r) for q in range(before) for r in range(before))
+        for _, q, r in pairs:
+            (kind, state), (other, by) = one_of[found[q]], one_of[found[r]]
+            if other == "n" and classes[kind, step[state][by]] not in found:
+                found.append(classes[kind, step[state][by]])
+    told = [one_of[one] for one in found]
+    return (names, tuple(tuple(found.index(classes["n", state]) for state in row) for row in begin), 0,
+            tuple(tuple(found.index(classes[kind, step[state][by]]) if other == "n" else 0 for other, by in told)
+                  for kind, state in told),
+            tuple(number for number, (kind, state) in enumerate(told) if kind == "t" and state in good))

@@ -30,6 +30,13 @@ INTERFACE = {
     "edits": """is_edit(thing) edited(document,edit) edited_all(document,edits) carried(document,edit)
         kept_pairs(document,edit) back_edit(document,edit) edits_between(document,other)
         laid_over(document,other,pairs)""",
+    "sayings": """is_saying(thing) free_names(saying) write_saying(saying) read_saying(text)
+        named_anew(saying,pairs) turned(saying) pushed_in(saying)""",
+    "meaning": "holds(saying,document,nodes) matches(saying,document)",
+    "machines": """is_machine(thing) state_of(machine,document,laying) states_of(machine,document,laying)
+        lets(machine,document,laying) takes(machine,document,nodes) joined_both(machine,other)
+        joined_either(machine,other) opposite(machine) without(machine,name) with_name(machine,name) once(names)
+        least(machine) size(machine) machine_of(saying)""",
 }
 
 
