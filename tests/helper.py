@@ -6,6 +6,11 @@ The second way reads documents as nested lists [name, mark, children] and edits 
 from functools import lru_cache
 from itertools import product
 
+from everymatch.errors import TooMany
+from everymatch.machines import machine_of
+from everymatch.meaning import matches
+from everymatch.sayings import is_saying, read_saying
+
 
 class Same:
     """An object that says it is equal to all."""
@@ -396,3 +401,85 @@ def least_plainly(machine):
             tuple(tuple(found.index(classes[kind, step[state][by]]) if other == "n" else 0 for other, by in told)
                   for kind, state in told),
             tuple(number for number, (kind, state) in enumerate(told) if kind == "t" and state in good))
+
+
+def eight_marks(word):
+    """The text of a saying of all marks standing anywhere; its machine has 512 states where it says and."""
+    texts = [f"some p p in {mark}" for mark in "abcdefgh"]
+    while len(texts) > 1:
+        texts = texts[2:] + [f"({texts[0]} {word} {texts[1]})"]
+    return texts[0]
+
+
+def document_by_chance(rng, many, marks="abcd"):
+    """A document of so many nodes, by chance deep or wide."""
+    found = []
+    bias = rng.random()
+    for _ in range(many):
+        ahead = found[-1][1] if found else -1
+        depth = rng.randint(0, ahead + 1) if rng.random() < bias else rng.choice((ahead + 1, max(ahead, 0), 0))
+        found.append((rng.choice(marks), depth))
+    return tuple(found)
+
+
+def children_plainly(document, node):
+    """How many children a node, or the top, has."""
+    trees = to_trees(document)
+    return len(trees if node is None else walk(trees)[node][0][2])
+
+
+def edit_by_chance(rng, document):
+    """An edit that fits the document, of any word that can."""
+    word = rng.choice(("mark", "put", "take", "move") if document else ("put",))
+    node = rng.randrange(len(document)) if document else None
+    if word == "mark":
+        return (word, node, rng.choice("abcd"))
+    if word == "take":
+        return (word, node)
+    left = document if word == "put" else tried(document, ("take", node))[0]
+    parent = rng.choice([None, *range(len(left))])
+    place = (parent, rng.randint(0, children_plainly(left, parent)))
+    if word == "move":
+        return (word, node, place)
+    piece = document_by_chance(rng, rng.randint(0, 3))
+    return (word, place, ((rng.choice("abcd"), 0),) + tuple((mark, depth + 1) for mark, depth in piece))
+
+
+def saying_by_chance(rng, names="xyzp", free=3):
+    """A saying by chance, one of those told among them, of at most so many free names and few nodes to tell."""
+    while True:
+        saying = some_saying(rng, rng.choice((1, 2, 3)), names)
+        if rng.random() < 0.4:
+            rows = {"M": "ac", "N": "b", "K": "bd"}
+            saying = read_saying("".join(rows.get(sign, sign) for sign in rng.choice(TOLD)))
+        if is_saying(saying) and len(free_plainly(saying)) <= free and machine_fits(saying):
+            return saying
+
+
+@lru_cache(maxsize=None)
+def machine_fits(saying):
+    """Whether the saying has a machine of few states."""
+    try:
+        return len(machine_of(saying)[3]) <= 60
+    except TooMany:
+        return False
+
+
+def changed_plainly(elder, newer, pairs, saying):
+    """(the matches that are added, those that are taken), by trying in both documents."""
+    before, behind = matches(saying, elder), matches(saying, newer)
+    if not free_plainly(saying):
+        return ([()] if behind and not before else [], [()] if before and not behind else [])
+    back = {twin: node for node, twin in enumerate(pairs) if twin is not None}
+    return ([nodes for nodes in behind if tuple(back.get(node) for node in nodes) not in before],
+            [nodes for nodes in before if tuple(pairs[node] for node in nodes) not in behind])
+
+
+def ceiling(saying, reached):
+    """How many parts match, number, behind and is_match may look at."""
+    return (len(free_plainly(saying)) + 1) * (12 * reached + 12)
+
+
+def edit_ceiling(edit, reached):
+    """How many parts an edit may look at."""
+    return 16 * reached + 16 + (6 * len(edit[2]) if edit[0] == "put" else 0)
