@@ -37,6 +37,23 @@ INTERFACE = {
         lets(machine,document,laying) takes(machine,document,nodes) joined_both(machine,other)
         joined_either(machine,other) opposite(machine) without(machine,name) with_name(machine,name) once(names)
         least(machine) size(machine) machine_of(saying)""",
+    "everywhere": "same_everywhere(saying,other) some_document(saying) in_all(saying)",
+    "shapes": """is_shape(thing) is_balanced(shape) width_of(shape) height_of(shape) tallest(width)
+        even_shape(width) joined_shapes(shape,other) put_shape(shape,place) taken_shape(shape,place)
+        cut_shape(shape,many) reach(document)""",
+    "ways": "row_ways(machine,document,node,begin,end) node_ways(machine,document,node)",
+    "desk": "run_desk(text)",
+}
+
+# The classes of the interface with their methods; the first call of each tells what the class itself takes.
+CLASSES = {
+    "answers": """Kept(document,saying) count() match(number) number(nodes) behind(nodes) first() last()
+        is_match(nodes) listed(most) document() copy() looks() edit(edit) shapes()""",
+    "changes": """Change(elder,newer,pairs,saying) added_count() taken_count() added(number) taken(number)
+        added_number(nodes) taken_number(nodes) looks()""",
+    "sessions": """Session(document,sayings) edit(edit) back(edition) document(edition) count(saying,edition)
+        match(saying,edition,number) number(saying,edition,nodes) behind(saying,edition,nodes)
+        added(saying,edition,number) taken(saying,edition,number) changes(saying,edition) looks() copy()""",
 }
 
 
@@ -142,11 +159,37 @@ class LanguageTest(unittest.TestCase):
             tree = ast.parse((FOLDER / f"{stem}.py").read_text(encoding="utf-8"))
             own = {node.name: node for node in tree.body if isinstance(node, ast.FunctionDef)}
             for call in told.split():
-                name, names = call[:-1].split("(")
-                self.assertIn(name, own, stem)
-                parameters = own[name].args
-                self.assertEqual([one.arg for one in parameters.args], names.split(","), name)
-                self.assertEqual(parameters.defaults + parameters.kwonlyargs + parameters.posonlyargs, [])
+                self.check_call(own, call, [])
+
+    def test_classes_of_the_interface(self):
+        for stem, told in CLASSES.items():
+            tree = ast.parse((FOLDER / f"{stem}.py").read_text(encoding="utf-8"))
+            name, parameters = told.split()[0].split("(")
+            body = [node for node in tree.body if isinstance(node, ast.ClassDef) and node.name == name][0].body
+            own = {node.name: node for node in body if isinstance(node, ast.FunctionDef)}
+            for call in ["__init__(" + parameters, *told.split()[1:]]:
+                self.check_call(own, call, ["self"])
+
+    def check_call(self, own, call, first):
+        """Check that a function of this name takes these parameters."""
+        name, names = call[:-1].split("(")
+        self.assertIn(name, own)
+        parameters = own[name].args
+        self.assertEqual([one.arg for one in parameters.args], first + [one for one in names.split(",") if one], name)
+        self.assertEqual(parameters.defaults + parameters.kwonlyargs + parameters.posonlyargs, [])
+
+    def test_methods_and_attributes(self):
+        """No name is a method and an attribute, and no attribute has a name that values of Python's have."""
+        barred = set(dir(list)) | set(dir(dict)) | set(dir(str)) | set(dir(set)) | set(dir(int)) | {"args"}
+        methods = {node.name for _, tree in trees() for one in nodes(tree, ast.ClassDef) for node in one.body
+                   if isinstance(node, ast.FunctionDef)}
+        stored = {node.attr for _, tree in trees() for node in nodes(tree, ast.Attribute)
+                  if isinstance(node.ctx, ast.Store)}
+        read = {node.attr for _, tree in trees() for node in nodes(tree, ast.Attribute)}
+        self.assertEqual(stored & methods, set())
+        self.assertEqual(stored & barred, set())
+        self.assertLessEqual(methods & barred, {"count", "copy", "__init__"})
+        self.assertLessEqual(read - methods - stored, barred)
 
 
 if __name__ == "__main__":
