@@ -96,7 +96,6 @@ def same_everywhere(saying, other):
 
 def some_document(saying):
     """(document, nodes) of as few nodes as any, a match of the saying; None if it has none anywhere."""
-    check_saying(saying)
     machine = machine_of(saying)
     good = machine[4]
     # All states of a least machine are come to.
@@ -109,7 +108,6 @@ def some_document(saying):
 
 def in_all(saying):
     """Whether each tuple of nodes of each document is a match of the saying."""
-    check_saying(saying)
     machine = machine_of(saying)
     return machine == once(machine[0])
 

@@ -85,8 +85,8 @@ class Answers:
 
     def least_behind(self, nodes):
         """The least match that is greater than the nodes, or None."""
-        less, is_match = self.place_of(nodes)
-        at = less + 1 if is_match else less
+        less, matched = self.place_of(nodes)
+        at = less + 1 if matched else less
         return self.match_at(at) if at < self.total() else None
 
     def first_ones(self, most):
@@ -163,10 +163,10 @@ def _along(keeper, part, ahead):
 
 def _ways_in(keeper, part, ahead, behind, lay):
     """How many ways there are in which the name of the lay stands in a stretch."""
-    names_of = keeper.reading.names_of
+    reading = keeper.reading
     total = 0
     for state, number in ahead.items():
         for after, times in keeper.ways_from(part, state).items():
-            if (names_of(state) ^ names_of(after)) & lay:
+            if (reading.names_of(state) ^ reading.names_of(after)) & lay:
                 total += number * times * behind[after]
     return total

@@ -30,10 +30,8 @@ def row_ways(machine, document, node, begin, end):
 
 def _check_stretch(begin, end, many):
     """Raise BadCount if these are no ends of a stretch of so many children."""
-    if not is_number(begin) or begin > many:
-        raise BadCount("the stretch begins at no child")
-    if not is_number(end) or end < begin or end > many:
-        raise BadCount("the stretch ends at no child, or ahead of its beginning")
+    if not is_number(begin) or not is_number(end) or not begin <= end <= many:
+        raise BadCount("there is no such stretch of the row")
 
 
 def node_ways(machine, document, node):

@@ -167,6 +167,22 @@ class KeptTest(unittest.TestCase):
                 call()
             self.asked(kept, 0, most)
 
+    def test_each_reading_and_making_counts(self):
+        # At the making each part is made, and each but the top is read by what stands above it.
+        rng = random.Random(90)
+        for document in (helper.row(64), helper.chain(50), helper.comb(31), helper.document_by_chance(rng, 70)):
+            kept = Kept(document, read_saying("x top"))
+            pairs = sum(max(0, helper.children_plainly(document, node) - 1) for node in (None, *range(len(document))))
+            self.asked(kept, 2 * (len(document) + 1 + pairs) - 1, 6 * len(document) + 6)
+        # An edit reads and makes each part on the way to its place, and reads the other side of each pair there.
+        for document, nodes, pairs in ((helper.row(64), 2, 6), (helper.chain(50), 51, 0), (helper.row(1), 2, 0)):
+            kept = Kept(document, read_saying("x top"))
+            for edit in (("mark", len(document) - 1, "b"), ("put", (None, 0), document[:1])):
+                twin = kept.copy()
+                twin.edit(edit)
+                nodes = nodes if edit[0] == "mark" else 1
+                self.asked(twin, 2 * nodes + 3 * pairs, helper.edit_ceiling(edit, reach(twin.document())))
+
     def test_bad_making(self):
         saying = read_saying("x top")
         great = read_saying(helper.eight_marks("and"))
@@ -288,7 +304,7 @@ class GreatDocumentsTest(unittest.TestCase):
 
     def test_thousands_of_nodes(self):
         rng = random.Random(88)
-        for document in (helper.row(20000, "b"), helper.chain(20000, "b"), helper.comb(20000)):
+        for document in (helper.row(20000, "b"), helper.chain(4000, "b"), helper.comb(4000)):
             for text in ("(x above z and (y above z and not x is y))", "x ahead y", "some p (p in b and not p top)"):
                 saying = read_saying(text)
                 kept = Kept(document, saying)

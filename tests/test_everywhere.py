@@ -229,6 +229,21 @@ class EverywhereTest(unittest.TestCase):
         with self.assertRaises(TooMany):
             _smallest(Grown([[0]] * 8, "top", step), lambda key: key == 16, 0)
 
+    def test_documents_of_just_too_many_nodes(self):
+        # Along the top pieces are awaited that are all doubled so often: their sizes are those of a sum.
+        def step(awaited):
+            def stepped(state, by):
+                if isinstance(state, tuple):
+                    return state[1:] if state and state[0] == by else state
+                return by + 1 if state == by else state
+            return Grown([[0]] * 8, awaited, stepped)
+
+        self.assertEqual(2 ** 14 + 2 ** 11 + 2 ** 10 + 2 ** 9 + 2 ** 5, 20000)
+        document, nodes = _smallest(step((14, 5, 11, 10, 9)), lambda key: key == (), 0)
+        self.assertEqual((len(document), nodes, is_document(document)), (20000, (), True))
+        with self.assertRaises(TooMany):
+            _smallest(step((14, 5, 0, 11, 10, 9)), lambda key: key == (), 0)
+
 
 if __name__ == "__main__":
     unittest.main()

@@ -99,7 +99,7 @@ class EditTest(unittest.TestCase):
                 for edit in (("mark", 0, "h"), ("mark", last, "b"), ("put", (None, 0), document[:1]),
                              ("take", 1), ("move", 0, (None, 0)), ("put", (last // 2, 0), (("b", 0),) + tuple(
                                  ("c", 1) for _ in range(99))), ("move", last // 2, (None, 0)), ("move", 0, (0, 0)),
-                             ("take", last // 2), *[None] * 20):
+                             ("take", last // 2), *[None] * 10):
                     edit = edit or helper.edit_by_chance(rng, kept.document())
                     if helper.tried(kept.document(), edit) is not None:
                         self.do(kept, edit)
@@ -112,7 +112,7 @@ class EditTest(unittest.TestCase):
                 self.assertEqual(kept.listed(5), Kept(now, read_saying(text)).listed(5))
 
     def test_moves_of_great_pieces(self):
-        document = helper.row(50) + tuple((mark, depth) for mark, depth in helper.comb(3000, "b"))
+        document = helper.row(50) + tuple((mark, depth) for mark, depth in helper.comb(1200, "b"))
         kept = Kept(document, read_saying("x over y"))
         # The piece keeps its parts: far fewer are looked at than it has nodes.
         for edit in (("move", 50, (None, 0)), ("move", 0, (None, 25)), ("move", 25, (3, 0)), ("move", 4, (None, 50)),

@@ -133,6 +133,9 @@ class LanguageTest(unittest.TestCase):
                 for sign, right in zip(node.ops, node.comparators):
                     if isinstance(sign, (ast.Is, ast.IsNot)):
                         self.assertIn(getattr(right, "value", 0), (None, True, False), (path.name, node.lineno))
+            for node in nodes(tree, ast.Tuple):
+                unread = [one for one in node.elts if isinstance(one, ast.Name) and one.id == "_"]
+                self.assertLessEqual(len(unread), 1, (path.name, node.lineno))
             for node in nodes(tree, ast.Constant):
                 self.assertNotIsInstance(node.value, (float, complex))
                 if isinstance(node.value, str):
