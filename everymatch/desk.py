@@ -50,8 +50,7 @@ ROWS = {
 def run_desk(text):
     """The list of the answers to the rows of a text."""
     desk = Desk()
-    rows = text.split("\n") if text else []
-    return [_answer(desk, row) for row in rows]
+    return [_answer(desk, row) for row in text.split("\n")]
 
 
 def _answer(desk, row):

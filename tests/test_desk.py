@@ -82,10 +82,13 @@ class DeskTest(unittest.TestCase):
         several = [row for row in BAD if row]
         self.assertEqual(self.run_rows([*BEGUN, *several, *asked])[len(BEGUN):], ["no"] * len(several) + wanted)
 
-    def test_no_rows(self):
-        self.assertEqual(run_desk(""), [])
+    def test_one_row_more_than_line_feeds(self):
         self.assertEqual(run_desk(text="text"), [""])
         self.assertEqual(run_desk("text\n\ntext"), ["", "no", ""])
+        self.assertEqual(run_desk("\ntext\n"), ["no", "", "no"])
+        for many in range(5):
+            self.assertEqual(run_desk("\n" * many), ["no"] * (many + 1))
+        self.assertIsNot(run_desk(""), run_desk(""))
 
     def test_at_first(self):
         self.assertEqual(self.run_rows(["text", "back 0", "back 1", "back 3", "put - 0 a(b)", "text"]),
